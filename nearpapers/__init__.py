@@ -1,0 +1,1 @@
+"""Nearpapers: what houses can show one another by short papers."""

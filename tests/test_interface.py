@@ -1,0 +1,67 @@
+"""The interface: names, arguments and attributes, and the file in which each is defined."""
+
+import importlib
+import inspect
+import unittest
+
+from nearpapers.books import Book
+from nearpapers.knowers import Knower
+from nearpapers.webs import Web
+from nearpapers.worlds import World
+
+FUNCTIONS = {
+    "webs": {"neighbours": 2, "distances": 2, "kind": 1, "slim": 1, "renumbered": 2},
+    "forms": {"form": 1, "trees": 2, "tree_of": 1},
+    "covers": {"cover": 3, "lifted": 2, "laid_over": 4},
+    "worlds": {"view": 3, "says": 3, "all_yes": 3},
+    "books": {"book_judge": 1},
+    "marking": {"marked": 2, "is_marked": 3, "many_marked": 2},
+    "rings": {"ring_counts": 2},
+    "knowers": {"branch_kind": 4, "knows": 2},
+}
+CLASSES = {
+    "webs": {"Web": ["signs", "ties"]},
+    "worlds": {"World": ["web", "names", "picked"]},
+    "books": {"Book": ["signs", "marks", "looks"]},
+    "knowers": {"Knower": ["signs", "kinds", "steps", "wholes"]},
+}
+
+
+def module_of(name):
+    return importlib.import_module("nearpapers." + name)
+
+
+class InterfaceTest(unittest.TestCase):
+    def test_functions(self):
+        for name, functions in FUNCTIONS.items():
+            for word, many in functions.items():
+                made = getattr(module_of(name), word)
+                self.assertTrue(inspect.isfunction(made))
+                self.assertEqual((made.__module__, made.__name__), ("nearpapers." + name, word))
+                self.assertEqual(len(inspect.signature(made).parameters), many)
+
+    def test_classes(self):
+        for name, classes in CLASSES.items():
+            for word, fields in classes.items():
+                made = getattr(module_of(name), word)
+                self.assertEqual((made.__module__, made.__name__), ("nearpapers." + name, word))
+                self.assertEqual(list(inspect.signature(made).parameters), fields)
+                self.assertIn("__eq__", vars(made))
+                self.assertIn("__init__", vars(made))
+
+    def test_objects_of_unlike_classes_are_unlike(self):
+        web = Web((0,), ())
+        things = [web, World(web, None, ()), Book(1, 1, ()), Knower(1, 1, ((0, 0, 0),), ())]
+        for one in things:
+            self.assertEqual([one == other for other in things], [one is other for other in things])
+        self.assertEqual(web.many, 1)
+
+    def test_objects_never_change(self):
+        web = Web((0, 1), ((0, 1, 4),))
+        world = World(web, (3, 4), (0,))
+        for held in [web.signs, web.ties, world.names, world.picked]:
+            self.assertIsInstance(held, tuple)
+
+
+if __name__ == "__main__":
+    unittest.main()
