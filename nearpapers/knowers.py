@@ -78,7 +78,7 @@ def is_sound(signs, kinds, steps, wholes):
         for bundle in small_bundles(kinds_had(signs, kinds, steps)):
             told = [(sign, with_kind(bundle, one)) in known for one in range(kinds)]
             tops.append((steps[sign][place_of(kinds, bundle)], told))
-    return all([told[other] == other_told[one] for one, told in tops for other, other_told in tops])
+    return all([row[other] == other_row[one] for one, row in tops for other, other_row in tops])
 
 
 def kinds_below(knower, web, root):
