@@ -4,25 +4,10 @@ The marks are told by sets: a house has the bits of its mark's number in the set
 house and its neighbours is put so that few names stand together: at most four, where the marks need two sets.
 """
 
+from nearpapers.balanced import all_of, any_of
+
 LETTERS = "abcdefghijklmnopqrst"
 MOST_NEAR = 3
-NEVER = ("not", ("yes",))
-
-
-def all_of(forms):
-    """The form that says that all of some forms, one at least, are true."""
-    if len(forms) == 1:
-        return forms[0]
-    half = len(forms) // 2
-    return ("both", all_of(forms[:half]), all_of(forms[half:]))
-
-
-def any_of(forms):
-    """The form that says that some of some forms is true."""
-    if len(forms) <= 1:
-        return forms[0] if forms else NEVER
-    half = len(forms) // 2
-    return ("either", any_of(forms[:half]), any_of(forms[half:]))
 
 
 def for_some(name, form):

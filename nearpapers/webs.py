@@ -12,15 +12,9 @@ class Web:
     """A joined web; signs has one sign for each house, ties are triples (a, b, weight)."""
 
     def __init__(self, signs, ties):
-        if not is_row(SIGNS, signs) or not 1 <= len(signs) <= MOST_HOUSES:
-            raise BadWeb("signs")
-        if not isinstance(ties, tuple):
-            raise BadWeb(-1)
-        wrong = first_wrong_tie(len(signs), ties)
+        wrong = wrong_part(signs, ties)
         if wrong is not None:
             raise BadWeb(wrong)
-        if -1 in steps_from(near_rows(len(signs), ties), 0):
-            raise BadWeb("joined")
         self.signs = signs
         self.ties = ties
         self.many = len(signs)
@@ -36,6 +30,18 @@ def big_web(signs, ties):
     web.ties = ties
     web.many = len(signs)
     return web
+
+
+def wrong_part(signs, ties):
+    """What is wrong with signs and ties as those of a web, or None."""
+    if not is_row(SIGNS, signs) or not 1 <= len(signs) <= MOST_HOUSES:
+        return "signs"
+    if not isinstance(ties, tuple):
+        return -1
+    wrong = first_wrong_tie(len(signs), ties)
+    if wrong is None and -1 in steps_from(near_rows(len(signs), ties), 0):
+        return "joined"
+    return wrong
 
 
 def is_tie(many, thing):
