@@ -5,10 +5,13 @@ import random
 
 from nearpapers.books import Book
 from nearpapers.errors import BadWeb, NoHouse
+from nearpapers.forms import tree_of, trees
+from nearpapers.knowers import Knower, knows
 from nearpapers.webs import Web
 from nearpapers.worlds import World
 
 ONE = Web((0,), ())
+E = Knower(1, 2, ((0, 1, 0, 1, 0, 0),), ((0, (0,)), (0, (0, 0, 0)), (0, (0, 1)), (0, (0, 1, 1))))
 
 
 def nested(thing, times, kind):
@@ -115,3 +118,127 @@ def some_judges():
 def dice_of(number):
     """A row of chances that is the same each time."""
     return random.Random(number)
+
+
+def bundles(kinds, most):
+    return sorted([row for many in range(most + 1)
+                   for row in itertools.combinations_with_replacement(range(kinds), many)])
+
+
+def knower_by(signs, kinds, step, whole):
+    """The knower whose steps and wholes two functions of (sign, bundle) tell."""
+    steps = tuple([tuple([step(sign, bundle) for bundle in bundles(kinds, 2)]) for sign in range(signs)])
+    wholes = tuple([(sign, bundle) for sign in range(signs) for bundle in bundles(kinds, 3) if whole(sign, bundle)])
+    return Knower(signs, kinds, steps, wholes)
+
+
+def remainder(signs, modulus, asked):
+    """Knows the trees whose signs add up to what is asked, modulo a number of kinds."""
+    return knower_by(signs, modulus, lambda sign, bundle: (sign + sum(bundle)) % modulus,
+                     lambda sign, bundle: (sign + sum(bundle)) % modulus == asked)
+
+
+def houses_modulo(signs, modulus, asked):
+    """Knows the trees whose number of houses is what is asked, modulo a number of kinds."""
+    return knower_by(signs, modulus, lambda sign, bundle: (1 + sum(bundle)) % modulus,
+                     lambda sign, bundle: (1 + sum(bundle)) % modulus == asked)
+
+
+def knows_all(signs):
+    """Knows all trees."""
+    return knower_by(signs, 1, lambda sign, bundle: 0, lambda sign, bundle: True)
+
+
+def knows_none(signs):
+    """Knows no tree."""
+    return knower_by(signs, 1, lambda sign, bundle: 0, lambda sign, bundle: False)
+
+
+def only_tree(web, signs):
+    """Knows the trees of one form alone, told by a web: a kind for each branch of the web, and one for all others."""
+    near = {house: plain_near(web, house) for house in range(web.many)}
+
+    def branch(house, up):
+        return (web.signs[house], tuple(sorted([branch(k, house) for k in near[house] if k != up])))
+
+    found = sorted({branch(house, up) for house in near for up in near[house]})
+    place = {one: at for at, one in enumerate(found)}
+    wholes = {branch(house, None) for house in near}
+
+    def made(sign, bundle):
+        return (sign, tuple(sorted([found[k] for k in bundle]))) if all(k < len(found) for k in bundle) else None
+
+    return knower_by(signs, len(found) + 1, lambda sign, bundle: place.get(made(sign, bundle), len(found)),
+                     lambda sign, bundle: made(sign, bundle) in wholes)
+
+
+SMALL = {1: 8, 2: 5, 3: 4}
+LISTED = {}
+
+
+def small_trees(signs):
+    """The pairs (form, web) of all small slim trees."""
+    if signs not in LISTED:
+        LISTED[signs] = [(one, tree_of(one)) for many in range(1, SMALL[signs] + 1) for one in trees(signs, many)]
+    return LISTED[signs]
+
+
+def small_known(knower):
+    """The forms of the small trees that a knower knows."""
+    return [one for one, web in small_trees(knower.signs) if knows(knower, web)]
+
+
+def some_knowers(signs):
+    """Knowers of some kinds."""
+    told = [knows_all(signs), knows_none(signs), houses_modulo(signs, 3, 1), houses_modulo(signs, 2, 0),
+            only_tree(row_web(3, (0, signs - 1)), signs), only_tree(Web((0,), ()), signs)]
+    if signs == 1:
+        return [*told, E]
+    return [*told, remainder(signs, 2, 1), remainder(signs, 3, 0)]
+
+
+def plain_holds(form, web, told):
+    """Whether a form is true of a web, names being told as houses and as lists of houses, by trying all."""
+    word = form[0]
+    houses = range(web.many)
+    if word == "yes":
+        return True
+    if word == "tie":
+        return told[form[2]] in plain_near(web, told[form[1]])
+    if word == "same":
+        return told[form[1]] == told[form[2]]
+    if word == "sign":
+        return web.signs[told[form[1]]] == form[2]
+    if word == "in":
+        return told[form[1]] in told[form[2]]
+    if word == "not":
+        return not plain_holds(form[1], web, told)
+    if word == "both":
+        return plain_holds(form[1], web, told) and plain_holds(form[2], web, told)
+    if word == "either":
+        return plain_holds(form[1], web, told) or plain_holds(form[2], web, told)
+    ways = houses if word in ("some", "every") else [
+        lot for many in range(web.many + 1) for lot in itertools.combinations(houses, many)]
+    truths = [plain_holds(form[2], web, {**told, form[1]: way}) for way in ways]
+    return all(truths) if word in ("every", "everyset") else any(truths)
+
+
+def random_body(dice, deep, houses, sets, signs=2):
+    """A form without names told in it, of names that are told around it."""
+    if deep > 1 and dice.randrange(5):
+        word = dice.choice(["not", "both", "either", "both", "either"])
+        return (word, *[random_body(dice, deep - 1, houses, sets, signs) for _ in range(1 if word == "not" else 2)])
+    words = ["sign"] + (["tie", "tie", "tie", "same"] if len(houses) > 1 else []) + (["in"] * 3 if sets else [])
+    word = dice.choice(words)
+    if word in ("tie", "same"):
+        return (word, *dice.sample(houses, 2))
+    return (word, dice.choice(houses), dice.randrange(signs) if word == "sign" else dice.choice(sets))
+
+
+def random_form(dice, houses, sets, deep):
+    """A form of a saying that tells all these names at its front."""
+    form = random_body(dice, deep, houses, sets)
+    names = houses + sets
+    for name in dice.sample(names, len(names)):
+        form = (dice.choice(["some", "every"] if name in houses else ["someset", "everyset"]), name, form)
+    return form

@@ -1,6 +1,5 @@
 """Points 4.1 and 4.2: knowers."""
 
-import itertools
 import unittest
 
 from nearpapers.bundles import many_small, place_of, small_bundles
@@ -8,27 +7,8 @@ from nearpapers.errors import BadKnower, NoHouse, NoTree
 from nearpapers.forms import tree_of, trees
 from nearpapers.knowers import Knower, branch_kind, knows
 from nearpapers.webs import Web, renumbered
-from tests.helper import dice_of, odd_things, plain_near, random_slim_tree, ring_web, row_web
-
-E = Knower(1, 2, ((0, 1, 0, 1, 0, 0),), ((0, (0,)), (0, (0, 0, 0)), (0, (0, 1)), (0, (0, 1, 1))))
-
-
-def bundles(kinds, most):
-    return sorted([row for many in range(most + 1)
-                   for row in itertools.combinations_with_replacement(range(kinds), many)])
-
-
-def knower_by(signs, kinds, step, whole):
-    """The knower whose steps and wholes two functions of (sign, bundle) tell."""
-    steps = tuple([tuple([step(sign, bundle) for bundle in bundles(kinds, 2)]) for sign in range(signs)])
-    wholes = tuple([(sign, bundle) for sign in range(signs) for bundle in bundles(kinds, 3) if whole(sign, bundle)])
-    return Knower(signs, kinds, steps, wholes)
-
-
-def remainder(signs, modulus, asked):
-    """Knows the trees whose signs add up to what is asked, modulo a number of kinds."""
-    return knower_by(signs, modulus, lambda sign, bundle: (sign + sum(bundle)) % modulus,
-                     lambda sign, bundle: (sign + sum(bundle)) % modulus == asked)
+from tests.helper import E, bundles, dice_of, knower_by, odd_things, plain_near, random_slim_tree, remainder, ring_web
+from tests.helper import row_web
 
 
 def plain_kind(knower, web, house, up):
