@@ -3,13 +3,21 @@
 import unittest
 
 from nearpapers.books import Book
+from nearpapers.branches import first_known
+from nearpapers.claimpapers import papers_for
+from nearpapers.claims import digits_of
 from nearpapers.covers import cover
+from nearpapers.exchange import book_of, shows
 from nearpapers.forms import form, trees
 from nearpapers.knowers import Knower, knows
+from nearpapers.maps import map_paper
 from nearpapers.marking import marked
 from nearpapers.rings import ring_counts
+from nearpapers.rules import Rule, rule_judge
+from nearpapers.saidtrees import knower_for
+from nearpapers.sayings import Saying, holds
 from nearpapers.webs import Web, distances, kind, neighbours
-from nearpapers.worlds import World, view
+from nearpapers.worlds import World, says, view
 
 w = Web((0, 1, 0), ((0, 1, 0), (1, 2, 0)))
 r = Web((1, 0, 0), ((0, 1, 0), (0, 2, 0), (1, 2, 0)))
@@ -40,8 +48,28 @@ class ExamplesTest(unittest.TestCase):
         self.assertIsNone(marked(b, r))
         self.assertEqual(ring_counts(b, 6), (0, 2, 0, 2))
 
-    def test_e07_what_knows_tells(self):
+    def test_e07(self):
         self.assertIs(knows(e, Web((0, 0), ((0, 1, 0),))), True)
+        self.assertEqual(first_known(e), (0, ((0, ()),)))
+
+    def test_e08(self):
+        self.assertIsNone(shows(book_of(e), e))
+
+    def test_e09(self):
+        self.assertIs(holds(Saying(("some", "x", ("sign", "x", 1))), w), True)
+
+    def test_e10(self):
+        self.assertIs(knows(knower_for(Saying(("some", "x", ("sign", "x", 1))), 2), w), True)
+
+    def test_e11(self):
+        self.assertEqual(says(v, ((0,), (1,), (0,)), rule_judge(Rule(1, ("each", ("not", ("same", ("own", 0), ("its", 0))))))), (True, True, True))
+
+    def test_e12(self):
+        self.assertEqual(papers_for(("leader",), v), ((9, 1), (9, 0), (9, 1)))
+        self.assertEqual(digits_of(((9, 1), (9, 0), (9, 1))), 4)
+
+    def test_e13(self):
+        self.assertEqual(map_paper(v), ((5, 9, 2), (0, 1, 0), ((0, 1, 0), (1, 2, 0)), (1, 0)))
 
 
 if __name__ == "__main__":

@@ -6,6 +6,8 @@ import unittest
 
 from nearpapers.books import Book
 from nearpapers.knowers import Knower
+from nearpapers.rules import Rule
+from nearpapers.sayings import Saying
 from nearpapers.webs import Web
 from nearpapers.worlds import World
 
@@ -18,12 +20,24 @@ FUNCTIONS = {
     "marking": {"marked": 2, "is_marked": 3, "many_marked": 2},
     "rings": {"ring_counts": 2},
     "knowers": {"branch_kind": 4, "knows": 2},
+    "joining": {"turned": 1, "both": 2, "either": 2},
+    "branches": {"parting": 2, "first_known": 1, "alike": 2, "least": 1, "unlike_kinds": 1, "known": 2, "matching": 2},
+    "exchange": {"knower_of": 1, "book_of": 1, "run_marks": 3, "shows": 2, "same_shown": 2},
+    "sayings": {"holds": 2},
+    "saidtrees": {"knower_for": 2, "saying_of": 1},
+    "rules": {"rule_judge": 1},
+    "claims": {"is_true": 2, "digits_of": 1},
+    "claimpapers": {"papers_for": 2},
+    "claimrules": {"claim_rule": 1},
+    "maps": {"map_paper": 1, "map_judge": 1},
 }
 CLASSES = {
     "webs": {"Web": ["signs", "ties"]},
     "worlds": {"World": ["web", "names", "picked"]},
     "books": {"Book": ["signs", "marks", "looks"]},
     "knowers": {"Knower": ["signs", "kinds", "steps", "wholes"]},
+    "sayings": {"Saying": ["form"]},
+    "rules": {"Rule": ["width", "test"]},
 }
 
 
@@ -51,7 +65,8 @@ class InterfaceTest(unittest.TestCase):
 
     def test_objects_of_unlike_classes_are_unlike(self):
         web = Web((0,), ())
-        things = [web, World(web, None, ()), Book(1, 1, ()), Knower(1, 1, ((0, 0, 0),), ())]
+        things = [web, World(web, None, ()), Book(1, 1, ()), Knower(1, 1, ((0, 0, 0),), ()),
+                  Saying(("yes",)), Rule(0, ("yes",))]
         for one in things:
             self.assertEqual([one == other for other in things], [one is other for other in things])
         self.assertEqual(web.many, 1)
