@@ -64,8 +64,8 @@ def cells_above(book):
     for sign, mark, near in book.looks:
         cells = [cell_of(book, pair) for pair in near]
         for at, cell in enumerate(cells):
-            rest = [-1, -1, *cells[:at], *cells[at + 1:]][-2:]
-            key = (cell_of(book, (sign, mark)), rest[0], rest[1])
+            rest = [-1, -1, *cells[:at], *cells[at + 1:]]
+            key = (cell_of(book, (sign, mark)), rest[-2], rest[-1])
             told[key] = told.get(key, 0) | (1 << cell)
     return told
 

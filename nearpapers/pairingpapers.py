@@ -13,8 +13,10 @@ def lots_of(world):
     spared = [pairings.most_of(every ^ (1 << house)) == most for house in range(web.many)]
     told = []
     for house, row in enumerate(near_lists(web)):
-        beside = any([spared[other] for other in row])
-        told.append(1 if spared[house] else 0 if beside else 2)
+        if spared[house]:
+            told.append(1)
+        else:
+            told.append(0 if any([spared[other] for other in row]) else 2)
     return told
 
 

@@ -210,6 +210,8 @@ class RuleTest(unittest.TestCase):
             self.assertIsInstance(rule, Rule)
             self.assertEqual(rule.width, WIDTHS[claim[0]])
             self.assertTrue(rule == claim_rule(claim))
+            # No rule of a claim comes to the bounds of a rule that is passed.
+            self.assertTrue(rule == Rule(rule.width, rule.test))
 
     def good_papers(self, claim, world):
         """Papers of a world like this one of which the claim is true, if it is not true of this one."""

@@ -132,7 +132,7 @@ class KnowerOfTest(unittest.TestCase):
 class BookOfTest(unittest.TestCase):
     def test_looks_as_told(self):
         for knower in [E, remainder(2, 2, 1), remainder(3, 2, 0), houses_modulo(1, 4, 3), houses_modulo(2, 3, 0),
-                       knows_all(3), knows_none(2)]:
+                       knows_all(3), knows_none(2), Knower(1, 3, ((1,) * 10,), ((0, (0, 2)), (0, (1,)), (0, (1, 1)), (0, (1, 1, 1)), (0, (2, 2, 2))))]:
             book = book_of(knower)
             self.assertEqual((book.signs, book.marks), (knower.signs, 3 * knower.kinds))
             self.assertEqual(book.looks, tuple(sorted(self.plain_looks(knower))))
