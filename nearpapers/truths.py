@@ -127,7 +127,7 @@ class Truths:
         """The table of a form that tells a name."""
         ways = self.ways_of(row[0])
         every = row[0] in ("every", "everyset")
-        if ways == self.lots and row[0] in ("someset", "everyset") and size * ways * self.peaks[row[2]] > MOST_BITS:
+        if row[0] in ("someset", "everyset") and size * ways * self.peaks[row[2]] > MOST_BITS:
             told = ones(size) if every else 0
             for lot in range(ways):
                 part = self.table(row[2], scope, {**fixed, row[1]: lot})

@@ -5,6 +5,7 @@ import unittest
 
 from nearpapers.books import Book
 from nearpapers.branches import alike, unlike_kinds
+from nearpapers.climbers import reached
 from nearpapers.errors import NoNumber, TooMany
 from nearpapers.exchange import book_of, knower_of
 from nearpapers.joining import turned
@@ -12,6 +13,7 @@ from nearpapers.knowers import Knower, knows
 from nearpapers.marking import marked
 from nearpapers.saidforms import free_names, listed, sets_at_once
 from nearpapers.saidkinds import marks_for
+from nearpapers.saidsets import MarkedSets
 from nearpapers.saidtrees import Bits, kinds_of_row, knower_for, saying_of
 from nearpapers.sayings import Saying, big_saying, holds
 from nearpapers.webs import Web, slim
@@ -66,17 +68,48 @@ def plain_branches(signs, most):
 
 def plain_unlike(body, signs, houses, sets, most):
     """How many branches of few houses, with marks for names, are unlike for a form, tied to all such branches."""
-    branches = []
-    for row, ups in plain_branches(signs, most):
-        many = len(row)
-        for placed in itertools.product([None, *range(many)], repeat=len(houses)):
-            for lots in itertools.product(range(1 << many), repeat=len(sets)):
-                branches.append((row, ups, placed, lots))
+    branches = [one for row, ups in plain_branches(signs, most) for one in all_marked(row, ups, houses, sets)]
     rows = set()
     kept = {}
     for one in branches:
         rows.add(tuple([plain_tied(body, houses, sets, one, other, kept) for other in branches]))
     return len(rows)
+
+
+def all_marked(row, ups, houses, sets):
+    """All ways to mark names on the houses of a branch, a name of a house on one of them or on none."""
+    many = len(row)
+    return [(row, ups, placed, lots) for placed in itertools.product([None, *range(many)], repeat=len(houses))
+            for lots in itertools.product(range(1 << many), repeat=len(sets))]
+
+
+def plain_many_sets(body, houses, sets, own, most):
+    """How many unlike sets of kinds branches of few houses have by all ways to mark one name, of one sign."""
+    shapes = plain_branches(1, most)
+    tied_to = [one for row, ups in shapes if len(row) < 3 for one in all_marked(row, ups, houses, sets)]
+    kept, found = {}, {}
+    for row, ups in shapes:
+        for one in all_marked(row, ups, houses, sets):
+            placed = [where for name, where in zip(houses, one[2]) if name != own]
+            lots = [lot for name, lot in zip(sets, one[3]) if name != own]
+            kind = tuple([plain_tied(body, houses, sets, one, other, kept) for other in tied_to])
+            found.setdefault((row, ups, tuple(placed), tuple(lots)), set()).add(kind)
+    return len({frozenset(kinds) for kinds in found.values()})
+
+
+def many_sets_for(body, own, signs=1):
+    """How many unlike sets branches have for the form that tells one more name around a form."""
+    rows = listed(body)
+    frees = free_names(rows)
+    bits = Bits(frees)
+    made = []
+    for row, pairs in zip(rows, frees):
+        made.append(kinds_of_row(row, made, marks_for(signs, bits.bits_of(pairs)), bits.full_of(pairs), bits))
+    rest = [pair for pair in frees[-1] if pair[0] != own]
+    marks = marks_for(signs, bits.bits_of(rest))
+    told = [pair for pair in frees[-1] if pair[0] == own][0]
+    sets = MarkedSets(made[-1], marks, bits.full_of(rest), bits.bit(told))
+    return len({state[1] for state in reached(len(marks), sets.step, 1000)})
 
 
 def plain_tied(body, houses, sets, one, other, kept):
@@ -228,6 +261,15 @@ class KnowerForTest(unittest.TestCase):
         # Each of the forms has at most 20 unlike branches: what is wide is wide by its sets alone.
         for part in (many, form[2][2][2], form[2][2]):
             self.assertLessEqual(unlike_for(part, 2), 20)
+
+    def test_sets_by_trying(self):
+        in_set, other = ("in", "x", "s"), ("in", "y", "s")
+        for body, houses, sets, own in [
+                (NEAR, "xy", "", "y"), (NEAR, "xy", "", "x"), (("same", "x", "y"), "xy", "", "x"), (in_set, "x", "s", "s"),
+                (in_set, "x", "s", "x"), (("not", in_set), "x", "s", "x"), (("not", NEAR), "xy", "", "y"),
+                (("both", in_set, ("not", other)), "xy", "s", "y"), (("either", ("not", NEAR), other), "xy", "s", "x"),
+                (("both", NEAR, other), "xy", "s", "s")]:
+            self.assertEqual(many_sets_for(body, own), plain_many_sets(body, houses, sets, own, 3), (body, own))
 
     def test_wide_is_no_matter_of_how_it_is_put(self):
         for body in [("not", ("not", NEAR)), ("both", NEAR, NEAR), ("either", NEAR, ("not", ("yes",))),
