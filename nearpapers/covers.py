@@ -26,7 +26,7 @@ def cover(web, sheets, turns):
     far = steps_from(near_rows(sheets * many, ties), 0)
     held = [place for place in range(sheets * many) if far[place] >= 0]
     called = {place: at for at, place in enumerate(held)}
-    below = tuple([place % many for place in range(sheets * many) if far[place] >= 0])
+    below = tuple([int(place) % many for place in range(sheets * many) if far[place] >= 0])
     kept = [(called[one], called[other], weight) for one, other, weight in ties if one in called]
     return (big_web(tuple([web.signs[house] for house in below]), tuple(sorted(kept))), below)
 
