@@ -4,9 +4,16 @@ import itertools
 import random
 
 from nearpapers.books import Book
+from nearpapers.covers import ring_world
+from nearpapers.desks import Desk
+from nearpapers.disks import Disk
 from nearpapers.errors import BadWeb, NoHouse
 from nearpapers.forms import tree_of, trees
 from nearpapers.knowers import Knower, knows
+from nearpapers.nets import Net
+from nearpapers.records import Record
+from nearpapers.rules import Rule
+from nearpapers.sayings import Saying
 from nearpapers.webs import Web
 from nearpapers.worlds import World
 
@@ -29,7 +36,9 @@ def odd_things():
         object(), int, tuple, len, ValueError, ValueError("x"), iter((0,)), NoHouse(), BadWeb("signs"), BadWeb,
         ONE, World(ONE, None, ()), (True,), (None,), (-1,), ("0",), ((0,),), ([0],), (0, [1]), (ONE,),
         nested(0, 40, tuple), nested(0, 40, list), nested((), 40, tuple), (0, nested(0, 39, tuple)),
-        tuple([0.5 == 1] * 20000), (lambda: 0),
+        tuple([0.5 == 1] * 20000), (lambda: 0), Disk(), Desk(), Net(World(ONE, (7,), ()), 3),
+        Record(World(ONE, (7,), ()), 3, ()), Rule(3, ("not", ("yes",))), Saying(("not", ("yes",))), (Disk(),),
+        Book(1, 1, ()), (0, World(ONE, (3,), ())),
     ]
 
 
@@ -43,6 +52,17 @@ def ring_web(signs):
     """Houses round, within the bounds of a web."""
     last = len(signs) - 1
     return Web(tuple(signs), tuple(sorted([(0, last, 0)] + [(k, k + 1, 0) for k in range(last)])))
+
+
+def named_world(dice, web, picked=2):
+    """A world of a web with drawn names, each tie picked with one chance of so many."""
+    names = tuple(dice.sample(range(1000000), web.many))
+    return World(web, names, tuple([at for at in range(len(web.ties)) if dice.randrange(picked) == 0]))
+
+
+def big_ring(many, names):
+    """The world of a ring of houses with names, past the bounds of a web."""
+    return World(ring_world((0,) * many).web, names, ())
 
 
 def random_web(dice, many, signs=4, more=3, weights=1):

@@ -1,4 +1,4 @@
-"""The examples of the document whose points have landed, word for word."""
+"""The examples of the document, word for word."""
 
 import unittest
 
@@ -7,15 +7,22 @@ from nearpapers.branches import first_known
 from nearpapers.claimpapers import papers_for
 from nearpapers.claims import digits_of
 from nearpapers.covers import cover
+from nearpapers.disks import mark
+from nearpapers.drawing import drawn
 from nearpapers.exchange import book_of, shows
 from nearpapers.forms import form, trees
+from nearpapers.gluing import enough, shortest
+from nearpapers.halves import error
 from nearpapers.knowers import Knower, knows
 from nearpapers.maps import map_paper
 from nearpapers.marking import marked
+from nearpapers.registers import rest, stepped
 from nearpapers.rings import ring_counts
 from nearpapers.rules import Rule, rule_judge
 from nearpapers.saidtrees import knower_for
 from nearpapers.sayings import Saying, holds
+from nearpapers.sayingtexts import saying_text
+from nearpapers.texts import web_text
 from nearpapers.webs import Web, distances, kind, neighbours
 from nearpapers.worlds import World, says, view
 
@@ -70,6 +77,29 @@ class ExamplesTest(unittest.TestCase):
 
     def test_e13(self):
         self.assertEqual(map_paper(v), ((5, 9, 2), (0, 1, 0), ((0, 1, 0), (1, 2, 0)), (1, 0)))
+
+    def test_e14(self):
+        self.assertEqual(enough(2), 289)
+        self.assertEqual(shortest(1000), 2)
+
+    def test_e15(self):
+        self.assertEqual(error((0, 1), (1, 0), 3), (1, 3))
+
+    def test_e16(self):
+        self.assertEqual(stepped(5, 10, ((3, None), (7, (7, 0, 7, 1)))), (7, 1, 7, 1))
+        self.assertEqual(rest(v), ((9, 1, 9, 1), (9, 0, 9, 3), (9, 1, 9, 1)))
+
+    def test_e17(self):
+        self.assertEqual(mark(b"\x00" * 16), 1048577)
+
+    def test_e18(self):
+        self.assertEqual(web_text(w), "web 0 1 0\ntie 0 1 0\ntie 1 2 0\n")
+
+    def test_e19(self):
+        self.assertEqual(saying_text(Saying(("every", "x", ("not", ("sign", "x", 2))))), "every x not sign x 2")
+
+    def test_e20(self):
+        self.assertEqual(drawn(v, ((9, 1), (9, 0), None)), "0 5 0 (9,1) 1*\n1 9 1 (9,0) 0* 2\n2 2 0 - 1\n")
 
 
 if __name__ == "__main__":

@@ -5,7 +5,11 @@ import inspect
 import unittest
 
 from nearpapers.books import Book
+from nearpapers.desks import Desk
+from nearpapers.disks import Disk
 from nearpapers.knowers import Knower
+from nearpapers.nets import Net
+from nearpapers.records import Record
 from nearpapers.rules import Rule
 from nearpapers.sayings import Saying
 from nearpapers.webs import Web
@@ -30,6 +34,14 @@ FUNCTIONS = {
     "claimpapers": {"papers_for": 2},
     "claimrules": {"claim_rule": 1},
     "maps": {"map_paper": 1, "map_judge": 1},
+    "gluing": {"four_ring": 2, "glued": 4, "fooled": 3, "is_fooling": 4, "enough": 1, "shortest": 1},
+    "halves": {"halves": 2, "crossed": 4, "is_crossing": 5, "dice_papers": 4, "dice_judge": 2, "error": 3},
+    "registers": {"begun": 1, "stepped": 3, "round_behind": 4, "rest": 1, "rounds_of": 4},
+    "disks": {"row_of": 1, "mark": 1, "register_of": 1, "kept_register": 1},
+    "records": {"first_wrong": 1, "registers_then": 2, "recorded": 3, "is_alike": 2},
+    "texts": {"web_text": 1, "book_text": 1, "read_web": 1, "read_book": 1},
+    "sayingtexts": {"saying_text": 1, "rule_text": 1, "read_saying": 1, "read_rule": 1},
+    "drawing": {"drawn": 2},
 }
 CLASSES = {
     "webs": {"Web": ["signs", "ties"]},
@@ -38,6 +50,14 @@ CLASSES = {
     "knowers": {"Knower": ["signs", "kinds", "steps", "wholes"]},
     "sayings": {"Saying": ["form"]},
     "rules": {"Rule": ["width", "test"]},
+    "records": {"Record": ["world", "most", "events"]},
+}
+# Classes whose objects do something, with the arguments of their methods.
+DOERS = {
+    "disks": {"Disk": ([], {"write": ["row"], "sync": [], "blocks": [], "synced": [], "cut": ["kept"], "copy": []})},
+    "nets": {"Net": (["world", "most"], {"registers": [], "heard": ["house"], "disk": ["house"], "bag": [],
+                                         "deed": ["thing"], "trip": ["order"], "at_rest": [], "copy": []})},
+    "desks": {"Desk": ([], {"tell": ["line"], "undoable": []})},
 }
 
 
@@ -63,10 +83,24 @@ class InterfaceTest(unittest.TestCase):
                 self.assertIn("__eq__", vars(made))
                 self.assertIn("__init__", vars(made))
 
+    def test_classes_that_do_something(self):
+        for name, classes in DOERS.items():
+            for word, (fields, methods) in classes.items():
+                made = getattr(module_of(name), word)
+                self.assertEqual((made.__module__, made.__name__), ("nearpapers." + name, word))
+                self.assertEqual(list(inspect.signature(made).parameters), fields)
+                for method, told in methods.items():
+                    self.assertIn(method, vars(made))
+                    self.assertEqual(list(inspect.signature(vars(made)[method]).parameters), ["self", *told])
+
+    def test_every_module_of_the_interface_is_there(self):
+        self.assertEqual(len({*FUNCTIONS, *CLASSES, *DOERS, "errors"}), 29)
+
     def test_objects_of_unlike_classes_are_unlike(self):
         web = Web((0,), ())
-        things = [web, World(web, None, ()), Book(1, 1, ()), Knower(1, 1, ((0, 0, 0),), ()),
-                  Saying(("yes",)), Rule(0, ("yes",))]
+        world = World(web, (0,), ())
+        things = [web, World(web, None, ()), Book(1, 1, ()), Knower(1, 1, ((0, 0, 0),), ()), Saying(("yes",)),
+                  Rule(0, ("yes",)), Disk(), Net(world, 1), Record(world, 1, ()), Desk()]
         for one in things:
             self.assertEqual([one == other for other in things], [one is other for other in things])
         self.assertEqual(web.many, 1)

@@ -19,7 +19,7 @@ LIBRARY = {"heapq": {"heappush", "heappop"}, "math": {"gcd", "lcm", "isqrt", "co
 DUNDERS = {"__init__", "__eq__", "__repr__", "__str__", "__len__"}
 BARRED = (ast.Global, ast.AsyncFunctionDef, ast.AsyncFor, ast.AsyncWith, ast.Await, ast.GeneratorExp, ast.Div,
           ast.JoinedStr, ast.Try, ast.Set, ast.NamedExpr, ast.Yield, ast.YieldFrom, ast.Lambda, ast.AnnAssign)
-WORDS = {"eval", "exec", "open", "input", "globals", "locals", "vars", "dir", "super", "register", "elements", "law"}
+WORDS = {"eval", "exec", "open", "input", "globals", "locals", "vars", "dir", "super", "elements", "law", "mro"}
 
 
 def files():
@@ -156,6 +156,48 @@ class LanguageTest(unittest.TestCase):
                 self.assertIn(node.func.attr, own | METHODS, f"{path}:{node.lineno}")
         for path, node in nodes(ast.Attribute):
             self.assertIn(node.attr, own | METHODS | stored, f"{path}:{node.lineno}")
+
+    def test_register_names_parameters_and_variables_alone(self):
+        for path, node in nodes((ast.FunctionDef, ast.ClassDef, ast.alias)):
+            self.assertNotIn("register", bound_names(node), path)
+        for path, node in nodes(ast.Attribute):
+            self.assertNotEqual(node.attr, "register", path)
+        for path, node in nodes(ast.keyword):
+            self.assertNotEqual(node.arg, "register", path)
+
+    def test_what_is_divided_is_plainly_a_number(self):
+        """The package makes bytes, so a remainder is taken of what the code shows to be a number."""
+        for path, node in nodes(ast.BinOp):
+            if isinstance(node.op, ast.Mod):
+                left = node.left
+                plain = isinstance(left, ast.Call) and ast.unparse(left.func) in ("int", "len", "sum", "abs")
+                plain = plain or isinstance(left, ast.BinOp) and isinstance(left.right, ast.Constant)
+                self.assertTrue(plain, f"{path}:{node.lineno}")
+        self.assertEqual([node for _, node in nodes(ast.AugAssign) if isinstance(node.op, ast.Mod)], [])
+
+    def test_library_names_are_called_alone(self):
+        for path, tree in trees_of_files():
+            names = {alias.name for node in tree.body if isinstance(node, ast.ImportFrom) and node.module in LIBRARY
+                     for alias in node.names}
+            called = {id(node.func) for node in ast.walk(tree) if isinstance(node, ast.Call)}
+            for node in ast.walk(tree):
+                if isinstance(node, ast.Name) and node.id in names:
+                    self.assertIn(id(node), called, path)
+                if isinstance(node, ast.Call) and isinstance(node.func, ast.Name) and node.func.id in names:
+                    self.assertEqual(node.keywords, [], path)
+
+    def test_lists_are_extended_by_lists(self):
+        for path, node in nodes(ast.Call):
+            if isinstance(node.func, ast.Attribute) and node.func.attr in ("extend", "join"):
+                given = node.args[0]
+                if isinstance(given, ast.Call):
+                    self.assertNotIn(ast.unparse(given.func), ("reversed", "zip", "enumerate", "range"), path)
+
+    def test_no_name_is_a_method_and_an_attribute(self):
+        methods = {part.name for _, node in nodes(ast.ClassDef) for part in node.body
+                   if isinstance(part, ast.FunctionDef)}
+        stored = {node.attr for _, node in nodes(ast.Attribute) if isinstance(node.ctx, ast.Store)}
+        self.assertEqual(methods & stored, set())
 
     def test_is(self):
         for path, node in nodes(ast.Compare):
