@@ -39,18 +39,17 @@ def proof(book, saying):
     return parted[0] + " " + web_text(tree_of(parted[1])).replace("\n", "|")
 
 
-def read_papers(many, word):
-    """The papers for so many houses that a word tells."""
+def read_papers(word):
+    """The papers, as many as may be, that a word tells."""
     rows = [part.split(",") for part in word.split(";")]
-    if len(rows) != many or not all([are_numbers(row) for row in rows]):
+    if not all([are_numbers(row) for row in rows]):
         raise NoPapers()
     return tuple([numbers_in(row) for row in rows])
 
 
 def signs_of_flags(rule, web, word):
     """What the houses of a web say by a rule to the papers that a word tells."""
-    papers = read_papers(web.many, word)
-    flags = says(World(web, None, ()), papers, rule_judge(rule))
+    flags = says(World(web, None, ()), read_papers(word), rule_judge(rule))
     return "".join(["+" if flag else "-" for flag in flags])
 
 

@@ -52,9 +52,7 @@ def line_words(line):
 
 
 def named_things(words):
-    """The list of the pairs (kind, name) of the things that must be kept for the words of a line."""
+    """The list of the pairs (kind, name) of the things that must be kept for the words of a line of no kind."""
     if words[0] in ("drop", "source"):
         return [(words[1], words[2])]
-    if words[0] in KINDS:
-        return []
     return [(part, word) for part, word in zip(LINES[words[0]], words[1:]) if part in KINDS]

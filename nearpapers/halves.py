@@ -3,7 +3,7 @@
 from math import gcd
 
 from nearpapers.errors import NoBits, NoNumber, NoPrime
-from nearpapers.plain import is_below, is_between, is_row
+from nearpapers.plain import is_below, is_between, is_number, is_row
 from nearpapers.tellings import is_row_of, is_shown, is_triple, is_unshown, need_marks, places_of
 from nearpapers.webs import big_web
 from nearpapers.worlds import World, all_yes
@@ -33,7 +33,7 @@ def need_prime(prime, point):
 
 def need_only_prime(prime):
     """Nothing, if a thing is one of the primes."""
-    if not is_between(2, PRIMES[-1], prime) or prime not in PRIMES:
+    if not is_number(prime) or prime not in PRIMES:
         raise NoPrime()
 
 

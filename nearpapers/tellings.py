@@ -41,5 +41,5 @@ def is_unshown(judge, maker, marks, world, thing):
 
 
 def is_triple(thing):
-    """Whether a thing is a triple that begins with a word."""
-    return isinstance(thing, tuple) and len(thing) == 3 and isinstance(thing[0], str)
+    """Whether a thing is a triple."""
+    return isinstance(thing, tuple) and len(thing) == 3

@@ -1,5 +1,6 @@
 """Points 10.1 to 10.3: rings of four, glued to rings of eight."""
 
+import hashlib
 import itertools
 import unittest
 
@@ -72,7 +73,7 @@ def plain_fooling(judge, maker, marks, thing):
 
 def chance(*things):
     """A number that goes by things alone."""
-    return int.from_bytes(repr(things).encode(), "big") % 1000003 * 7919 % 1000003
+    return int.from_bytes(hashlib.md5(repr(things).encode()).digest()[:4], "big")
 
 
 def some_makers(marks):
@@ -218,6 +219,28 @@ class FooledTest(unittest.TestCase):
 
         for judge in some_judges()[:2]:
             self.held(judge, maker, (0, 1))
+
+    def test_judges_that_hold_houses_to_a_table(self):
+        """The houses where both numbers meet see them, and say no to any other row of marks than the one of the table."""
+        def table(way, i, j):
+            if way < 3:
+                return tuple([chance(way, i, j, k) % 2 for k in range(4)])
+            line = min((j // 17 - i % 17 * (j % 17) - i // 17) % 17, 15)
+            return tuple([line >> k & 1 for k in range(4)])
+
+        for way in range(4):
+            def maker(world):
+                return table(way, world.names[0] // 4, world.names[2] // 4)
+
+            def judge(seen):
+                i = [name // 4 for name in (seen[0][0], *[row[0] for row in seen[1]]) if name % 4 < 2]
+                j = [name // 4 for name in (seen[0][0], *[row[0] for row in seen[1]]) if name % 4 > 1]
+                return i == [] or j == [] or seen[0][2] == table(way, i[0], j[0])[seen[0][0] % 4]
+
+            told = self.held(judge, maker, (0, 1))
+            self.assertEqual(told[0], "fooled")
+            a, b, c, d = [name // 4 for name in told[1].names[1::2]]
+            self.assertEqual({table(way, i, j) for i in (a, c) for j in (b, d)}, {told[2][:4]})
 
     def test_a_square_late_in_the_table(self):
         """With one mark all are alike; with two, each of the first rows has its own row of marks."""
@@ -366,6 +389,17 @@ class IsFoolingTest(unittest.TestCase):
         for names in [plain_names(200000, 1) + plain_names(1, 2), plain_names(4, 1) + plain_names(1, 200001)]:
             past = World(glued(0, 0, 1, 1).web, names, ())
             self.assertIs(is_fooling(yes, None, (0,), ("fooled", past, (0,) * 8)), False)
+
+    def test_names_that_lie_near(self):
+        """Names by which one number would name both rings make no glued world."""
+        yes = lambda seen: True
+        for names in [(0, 1, 6, 7, 2, 3, 10, 11), (0, 1, 6, 7, 8, 9, 4, 5), (0, 1, 6, 7, 2, 3, 4, 5), (1, 0, 6, 7, 8, 9, 10, 11),
+                      (0, 1, 3, 2, 8, 9, 6, 7), (0, 1, 6, 7, 9, 8, 10, 11), (0, 1, 6, 7, 8, 9, 11, 10)]:
+            world = World(glued(0, 0, 1, 1).web, names, ())
+            self.assertIs(is_fooling(yes, None, (0,), ("fooled", world, (0,) * 8)), False)
+        for names in [(0, 1, 4, 5), (0, 1, 7, 6), (1, 0, 6, 7), (2, 3, 6, 7), (0, 5, 6, 7), (0, 1, 6, 11), (3, 1, 6, 7)]:
+            world = World(four_ring(0, 0).web, names, ())
+            self.assertIs(is_fooling(yes, lambda world: 5, (0,), ("unshown", world, 5)), False)
 
     def test_what_is_shown_is_not_unshown(self):
         yes = lambda seen: True

@@ -72,7 +72,7 @@ class HalvesTest(unittest.TestCase):
                         call(thing, good)
                     with self.assertRaises(NoBits):
                         call(good, thing)
-        for one, other in [((0,), (0, 0)), ((0, 1, 1), (0, 1)), ((1,) * 8, (1,) * 7)]:
+        for one, other in [((0,), (0, 0)), ((0, 1, 1), (0, 1)), ((1,) * 8, (1,) * 7), ((), ()), ((0,) * 9, (0,) * 9)]:
             for call in [lambda: halves(one, other), lambda: dice_papers(one, other, 3, 0), lambda: error(one, other, 3)]:
                 with self.assertRaises(NoBits):
                     call()
@@ -155,6 +155,35 @@ class CrossedTest(unittest.TestCase):
         told = self.held(YES, maker, (0, 1, 2, 3), 7)
         self.assertEqual(told[0], "fooled")
 
+    def test_what_stands_in_the_middle(self):
+        """Judges that show all alike halves, and refuse rows whose halves do not agree on one thing in the middle."""
+        for half in (5, 6, 8):
+            last, first = half - 1, half
+            # Where the front ends: its last bit, or what its last house holds, stands at the second house behind it.
+            by_sign = lambda world: [world.web.signs[last] if name == first + 1 else 0 for name in world.names]
+            by_mark = lambda world: [sum(world.web.signs[:half]) % 2 if name in (last, first + 1) else 0 for name in world.names]
+            # Where the back begins: likewise, at the second house ahead of it.
+            by_sign_behind = lambda world: [world.web.signs[first] - 2 if name == last - 1 else 0 for name in world.names]
+            by_mark_behind = lambda world: [sum(world.web.signs[:half]) % 2 if name in (first, last - 1) else 0
+                                            for name in world.names]
+            for maker, judge in [
+                    (by_sign, lambda seen: seen[0][0] != first or seen[1][0][3] == seen[1][1][4]),
+                    (by_mark, lambda seen: seen[0][0] != first or seen[1][0][4] == seen[1][1][4]),
+                    (by_sign_behind, lambda seen: seen[0][0] != last or seen[1][1][3] - 2 == seen[1][0][4]),
+                    (by_mark_behind, lambda seen: seen[0][0] != last or seen[1][1][4] == seen[1][0][4])]:
+                told = self.held_word(judge, lambda world: tuple(maker(world)), (0, 1), half)
+                self.assertEqual(told, "fooled")
+
+    def test_marks_beside_the_middle_are_no_matter(self):
+        """Rows of bits that two marks in the middle and one beside them would all tell apart."""
+        for start in (3, 4):
+            def maker(world):
+                told = [0] * 10
+                told[start:start + 3] = world.web.signs[1:4]
+                return tuple(told)
+
+            self.assertEqual(self.held(YES, maker, (0, 1), 5)[0], "fooled")
+
     def test_halves_let_in(self):
         for many, least in LEAST.items():
             marks = tuple(range(many))
@@ -210,6 +239,8 @@ class CrossedTest(unittest.TestCase):
             worlds += [World(world.web, None, ()), World(world.web, names, (1,)), World(world.web, names[::-1], ()),
                        World(world.web, tuple([name + 1 for name in names]), ()), plain_halves((0, 0), (0, 0)),
                        plain_halves((0, 0, 1, 1), (0, 0, 1, 1)), World(row_web(6, (0, 2)), names, ()), world.web, names,
+                       World(Web((0, 0, 0, 2, 2, 2, 2), row_web(7).ties), tuple(range(7)), ()),
+                       World(Web((0, 0, 0, 2, 2), row_web(5).ties), tuple(range(5)), ()),
                        World(Web(world.web.signs[:5] + (0,), world.web.ties), names, ()),
                        World(Web((2,) + world.web.signs[1:], world.web.ties), names, ()),
                        World(Web(world.web.signs, ((0, 1, 1), *world.web.ties[1:])), names, ())]
