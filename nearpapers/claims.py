@@ -4,7 +4,7 @@ from nearpapers.claimwords import need_claim, need_small_named
 from nearpapers.errors import NoPapers
 from nearpapers.worldparts import covering, is_pairing, is_picked_ring, is_spanning, lengths_from, lightest
 from nearpapers.worldparts import most_paired, one_with_sign, picked_lengths, tie_on_one_side
-from nearpapers.worlds import is_papers
+from nearpapers.worlds import World, is_papers
 
 MOST_PAPERS = 100
 
@@ -48,8 +48,10 @@ def is_of_picked(word, world):
 
 
 def is_true(claim, world):
-    """Whether a claim is true of a world with names."""
+    """Whether a claim is true of a world with names; of what is no world none is."""
     need_claim(claim)
+    if not isinstance(world, World):
+        return False
     need_small_named(world)
     if claim[0] == "many":
         return world.web.many == claim[1]

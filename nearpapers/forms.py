@@ -14,6 +14,11 @@ def form(web):
     """The least of the forms that a tree has, hung up at any of its houses."""
     if kind(web) != "tree":
         raise NoTree()
+    return least_form(web)
+
+
+def least_form(web):
+    """The form of a web that is a tree."""
     near = near_lists(web)
     return min([hung_form(web.signs, near, root) for root in range(web.many)])
 
@@ -35,10 +40,10 @@ def is_branch(most, thing):
     return is_below(SIGNS, thing[0]) and isinstance(thing[1], tuple) and len(thing[1]) <= most
 
 
-def tree_of(thing):
+def tree_of(form):
     """The tree of a form, all its weights 0."""
-    web = planted(thing)
-    if web is None or form(web) != thing:
+    web = planted(form)
+    if web is None or least_form(web) != form:
         raise NoForm()
     return web
 
@@ -84,7 +89,7 @@ def grown_forms(one, signs):
         if len(near[house]) < MOST_NEAR:
             ties = tuple(sorted([*web.ties, (house, web.many, 0)]))
             for sign in range(signs):
-                grown.append(form(big_web((*web.signs, sign), ties)))
+                grown.append(least_form(big_web((*web.signs, sign), ties)))
     return grown
 
 

@@ -140,6 +140,13 @@ class ErrorsTest(unittest.TestCase):
         for many in (1, 100):
             self.assertIsInstance(claim_rule(("many", many)), Rule)
 
+    def test_of_what_is_no_world_no_claim_is_true(self):
+        for thing in [thing for thing in odd_things() if not isinstance(thing, World)]:
+            for claim in ALL:
+                self.assertIs(is_true(claim, thing), False)
+            with self.assertRaises(NoClaim):
+                is_true(("lead",), thing)
+
     def test_nameless_then_too_many_then_not_true(self):
         self.assertEqual(BIG.web.many, 18)
         for claim in ALL:

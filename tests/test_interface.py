@@ -16,32 +16,40 @@ from nearpapers.webs import Web
 from nearpapers.worlds import World
 
 FUNCTIONS = {
-    "webs": {"neighbours": 2, "distances": 2, "kind": 1, "slim": 1, "renumbered": 2},
-    "forms": {"form": 1, "trees": 2, "tree_of": 1},
-    "covers": {"cover": 3, "lifted": 2, "laid_over": 4},
-    "worlds": {"view": 3, "says": 3, "all_yes": 3},
-    "books": {"book_judge": 1},
-    "marking": {"marked": 2, "is_marked": 3, "many_marked": 2},
-    "rings": {"ring_counts": 2},
-    "knowers": {"branch_kind": 4, "knows": 2},
-    "joining": {"turned": 1, "both": 2, "either": 2},
-    "branches": {"parting": 2, "first_known": 1, "alike": 2, "least": 1, "unlike_kinds": 1, "known": 2, "matching": 2},
-    "exchange": {"knower_of": 1, "book_of": 1, "run_marks": 3, "shows": 2, "same_shown": 2},
-    "sayings": {"holds": 2},
-    "saidtrees": {"knower_for": 2, "saying_of": 1},
-    "rules": {"rule_judge": 1},
-    "claims": {"is_true": 2, "digits_of": 1},
-    "claimpapers": {"papers_for": 2},
-    "claimrules": {"claim_rule": 1},
-    "maps": {"map_paper": 1, "map_judge": 1},
-    "gluing": {"four_ring": 2, "glued": 4, "fooled": 3, "is_fooling": 4, "enough": 1, "shortest": 1},
-    "halves": {"halves": 2, "crossed": 4, "is_crossing": 5, "dice_papers": 4, "dice_judge": 2, "error": 3},
-    "registers": {"begun": 1, "stepped": 3, "round_behind": 4, "rest": 1, "rounds_of": 4},
-    "disks": {"row_of": 1, "mark": 1, "register_of": 1, "kept_register": 1},
-    "records": {"first_wrong": 1, "registers_then": 2, "recorded": 3, "is_alike": 2},
-    "texts": {"web_text": 1, "book_text": 1, "read_web": 1, "read_book": 1},
-    "sayingtexts": {"saying_text": 1, "rule_text": 1, "read_saying": 1, "read_rule": 1},
-    "drawing": {"drawn": 2},
+    "webs": {"neighbours": "web house", "distances": "web house", "kind": "web", "slim": "web",
+             "renumbered": "web order"},
+    "forms": {"form": "web", "trees": "signs many", "tree_of": "form"},
+    "covers": {"cover": "web sheets turns", "lifted": "papers below", "laid_over": "judge signs papers times"},
+    "worlds": {"view": "world papers house", "says": "world papers judge", "all_yes": "world papers judge"},
+    "books": {"book_judge": "book"},
+    "marking": {"marked": "book web", "is_marked": "book web thing", "many_marked": "book web"},
+    "rings": {"ring_counts": "book most"},
+    "knowers": {"branch_kind": "knower web house up", "knows": "knower web"},
+    "joining": {"turned": "knower", "both": "one other", "either": "one other"},
+    "branches": {"parting": "one other", "first_known": "knower", "alike": "one other", "least": "knower",
+                 "unlike_kinds": "knower", "known": "knower many", "matching": "one other"},
+    "exchange": {"knower_of": "book", "book_of": "knower", "run_marks": "knower web root", "shows": "book knower",
+                 "same_shown": "one other"},
+    "sayings": {"holds": "saying web"},
+    "saidtrees": {"knower_for": "saying signs", "saying_of": "book"},
+    "rules": {"rule_judge": "rule"},
+    "claims": {"is_true": "claim world", "digits_of": "papers"},
+    "claimpapers": {"papers_for": "claim world"},
+    "claimrules": {"claim_rule": "claim"},
+    "maps": {"map_paper": "world", "map_judge": "test"},
+    "gluing": {"four_ring": "i j", "glued": "a b c d", "fooled": "judge maker marks",
+               "is_fooling": "judge maker marks thing", "enough": "many", "shortest": "names"},
+    "halves": {"halves": "bits other", "crossed": "judge maker marks half",
+               "is_crossing": "judge maker marks half thing", "dice_papers": "bits other prime point",
+               "dice_judge": "prime point", "error": "bits other prime"},
+    "registers": {"begun": "name", "stepped": "name most heard", "round_behind": "world most registers order",
+                  "rest": "world", "rounds_of": "world most registers orders"},
+    "disks": {"row_of": "register", "mark": "row", "register_of": "row", "kept_register": "blocks"},
+    "records": {"first_wrong": "record", "registers_then": "record at", "recorded": "world most order",
+                "is_alike": "record thing"},
+    "texts": {"web_text": "web", "book_text": "book", "read_web": "text", "read_book": "text"},
+    "sayingtexts": {"saying_text": "saying", "rule_text": "rule", "read_saying": "text", "read_rule": "text"},
+    "drawing": {"drawn": "world papers"},
 }
 CLASSES = {
     "webs": {"Web": ["signs", "ties"]},
@@ -68,11 +76,11 @@ def module_of(name):
 class InterfaceTest(unittest.TestCase):
     def test_functions(self):
         for name, functions in FUNCTIONS.items():
-            for word, many in functions.items():
+            for word, arguments in functions.items():
                 made = getattr(module_of(name), word)
                 self.assertTrue(inspect.isfunction(made))
                 self.assertEqual((made.__module__, made.__name__), ("nearpapers." + name, word))
-                self.assertEqual(len(inspect.signature(made).parameters), many)
+                self.assertEqual(list(inspect.signature(made).parameters), arguments.split())
 
     def test_classes(self):
         for name, classes in CLASSES.items():
